@@ -1,0 +1,86 @@
+package fairway_test
+
+import (
+	"math"
+	"strings"
+	"testing"
+
+	"fairway/fairway"
+)
+
+func TestErrorNumbers(t *testing.T) {
+	for number, err := range []fairway.Errno{
+		fairway.OK, fairway.ErrLong, fairway.ErrGraph, fairway.ErrState, fairway.ErrFair,
+		fairway.ErrFormula, fairway.ErrNest, fairway.ErrArg, fairway.ErrAll, fairway.ErrFalse,
+	} {
+		if int(err) != number {
+			t.Errorf("an error's number is %d, want %d", err, number)
+		}
+	}
+}
+
+// oddTexts are texts that no call may stumble over.
+func oddTexts() []string {
+	texts := []string{
+		"", "\x00", "\xff\xfe", "\u00e9", "p", "T", ">;", ">1;", "p>01;q>2;>0;",
+		"E[pUq]", "EXEXEXEXp", "A[", "[(0)],.o", strings.Repeat("(", 30),
+		strings.Repeat("!", 30), strings.Repeat("E[", 15), strings.Repeat(">;", 105),
+		strings.Repeat("z", 210), strings.Repeat("(", 5000000), strings.Repeat(">", 5000000),
+	}
+	for b := 0; b < 256; b++ {
+		texts = append(texts, string([]byte{byte(b)}), "p>0"+string([]byte{byte(b)}))
+	}
+	return texts
+}
+
+// Every call ends and none panics, and an error goes with no other result.
+func TestCallsEndAtOddTexts(t *testing.T) {
+	for _, text := range oddTexts() {
+		err, where := fairway.Check(text)
+		if where != 0 && err != fairway.ErrGraph && err != fairway.ErrState {
+			t.Errorf("Check(%.60q) = %d, %d", text, err, where)
+		}
+		err, where = fairway.Form(text)
+		if where != 0 && err != fairway.ErrFormula {
+			t.Errorf("Form(%.60q) = %d, %d", text, err, where)
+		}
+		pushed, pushErr := fairway.Push(text)
+		if pushErr != err || (err == fairway.OK) != (pushed != "") {
+			t.Errorf("Push(%.60q) = %q, %d, but Form tells %d", text, pushed, pushErr, err)
+		}
+		for _, state := range []int{math.MinInt, -1, 0, 5, 6, math.MaxInt} {
+			fairway.Solve(text, text, text)
+			fairway.Replay(text, text, text, state, text)
+			fairway.Show(text, text, text, state)
+		}
+	}
+}
+
+type answers struct {
+	checkErr, formErr, pushErr fairway.Errno
+	checkWhere, formWhere      int
+	pushed                     string
+}
+
+func answersTo(text string) answers {
+	var a answers
+	a.checkErr, a.checkWhere = fairway.Check(text)
+	a.formErr, a.formWhere = fairway.Form(text)
+	a.pushed, a.pushErr = fairway.Push(text)
+	return a
+}
+
+// What a call answers does not hang on the calls ahead of it.
+func TestCallsKeepNothing(t *testing.T) {
+	texts := append(oddTexts(), "!E[pU!q]", "!(p&q)", strings.Repeat(fullState, 6), ">0;>5;")
+	first := make([]answers, len(texts))
+	for i, text := range texts {
+		first[i] = answersTo(text)
+	}
+	for i := len(texts) - 1; i >= 0; i-- {
+		answersTo(texts[(i*7)%len(texts)])
+		if again := answersTo(texts[i]); again != first[i] {
+			t.Errorf("%.60q: first %v, then %v", texts[i], first[i], again)
+		}
+	}
+}
