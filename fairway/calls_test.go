@@ -48,10 +48,28 @@ func TestCallsEndAtOddTexts(t *testing.T) {
 		if pushErr != err || (err == fairway.OK) != (pushed != "") {
 			t.Errorf("Push(%.60q) = %q, %d, but Form tells %d", text, pushed, pushErr, err)
 		}
+		testSolveAtOddText(t, text)
 		for _, state := range []int{math.MinInt, -1, 0, 5, 6, math.MaxInt} {
-			fairway.Solve(text, text, text)
 			fairway.Replay(text, text, text, state, text)
 			fairway.Show(text, text, text, state)
+		}
+	}
+}
+
+// testSolveAtOddText lays the text at each place of Solve, with texts that
+// are in order at the others.
+func testSolveAtOddText(t *testing.T, text string) {
+	t.Helper()
+	for _, texts := range [][3]string{
+		{text, text, text}, {text, "p", "AXp"}, {example, text, "AXp"}, {example, "p", text},
+	} {
+		solved, err := fairway.Solve(texts[0], texts[1], texts[2])
+		count := 0
+		if err == fairway.OK {
+			count = strings.Count(texts[0], ";")
+		}
+		if len(solved) != count || strings.Trim(solved, "01") != "" {
+			t.Errorf("Solve(%.60q, %.60q, %.60q) = %.60q, %d", texts[0], texts[1], texts[2], solved, err)
 		}
 	}
 }
@@ -60,6 +78,8 @@ type answers struct {
 	checkErr, formErr, pushErr fairway.Errno
 	checkWhere, formWhere      int
 	pushed                     string
+	solved                     [3]string
+	solveErrs                  [3]fairway.Errno
 }
 
 func answersTo(text string) answers {
@@ -67,6 +87,9 @@ func answersTo(text string) answers {
 	a.checkErr, a.checkWhere = fairway.Check(text)
 	a.formErr, a.formWhere = fairway.Form(text)
 	a.pushed, a.pushErr = fairway.Push(text)
+	a.solved[0], a.solveErrs[0] = fairway.Solve(text, "p", "E[!TRp]")
+	a.solved[1], a.solveErrs[1] = fairway.Solve(example, text, "E[!TRp]")
+	a.solved[2], a.solveErrs[2] = fairway.Solve(example, "q", text)
 	return a
 }
 

@@ -39,7 +39,13 @@ func Push(formula string) (string, Errno) {
 }
 
 // Solve tells in which states a formula holds (P6).
-func Solve(graph string, fair string, formula string) (string, Errno) { return "", OK }
+func Solve(graph string, fair string, formula string) (string, Errno) {
+	asked := loadQuestion(graph, fair, formula)
+	if asked.err != OK {
+		return "", asked.err
+	}
+	return asked.answer(), OK
+}
 
 // Replay tells whether a text is a certificate (P7).
 func Replay(graph string, fair string, formula string, state int, cert string) (bool, Errno) {

@@ -10,6 +10,7 @@ type graphStates struct {
 	err   Errno // OK, or why the text is refused: then there are no states
 	where int   // what Check tells beside err
 	count int
+	marks [maxStates]string
 	next  [maxStates][maxStates]bool
 }
 
@@ -57,6 +58,7 @@ func (g *graphStates) readState(text string, place int) (int, bool) {
 	if !stands(text, end, ';') {
 		return end, false
 	}
+	g.marks[g.count] = text[place:arrow]
 	g.count++
 	return end + 1, true
 }
@@ -103,4 +105,15 @@ func (g *graphStates) firstAstray() (int, bool) {
 		}
 	}
 	return 0, false
+}
+
+// bears tells whether a state has this mark.
+func (g *graphStates) bears(state int, mark byte) bool {
+	marks := g.marks[state]
+	for place := 0; place < len(marks); place++ {
+		if marks[place] == mark {
+			return true
+		}
+	}
+	return false
 }
