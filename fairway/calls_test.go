@@ -50,7 +50,7 @@ func TestCallsEndAtOddTexts(t *testing.T) {
 		}
 		testSolveAtOddText(t, text)
 		for _, state := range []int{math.MinInt, -1, 0, 5, 6, math.MaxInt} {
-			fairway.Replay(text, text, text, state, text)
+			testReplayAtOddText(t, text, state)
 			fairway.Show(text, text, text, state)
 		}
 	}
@@ -74,12 +74,29 @@ func testSolveAtOddText(t *testing.T, text string) {
 	}
 }
 
+// testReplayAtOddText lays the text at each place of Replay, with texts that
+// are in order at the others.
+func testReplayAtOddText(t *testing.T, text string, state int) {
+	t.Helper()
+	for _, texts := range [][4]string{
+		{text, text, text, text}, {text, "p", "EXp", "[(0)]."}, {example, text, "EXp", "[(0)]."},
+		{example, "p", text, "[(0)]."}, {example, "p", "EXp", text}, {example, "p", "E[!TRE[TUp]]", text},
+	} {
+		yes, err := fairway.Replay(texts[0], texts[1], texts[2], state, texts[3])
+		if yes && (err != fairway.OK || state < 0 || state >= strings.Count(texts[0], ";")) {
+			t.Errorf("Replay(%.60q, %.60q, %.60q, %d, %.60q) = %v, %d", texts[0], texts[1], texts[2], state, texts[3], yes, err)
+		}
+	}
+}
+
 type answers struct {
 	checkErr, formErr, pushErr fairway.Errno
 	checkWhere, formWhere      int
 	pushed                     string
 	solved                     [3]string
 	solveErrs                  [3]fairway.Errno
+	shown                      [4]bool
+	replayErrs                 [4]fairway.Errno
 }
 
 func answersTo(text string) answers {
@@ -90,6 +107,10 @@ func answersTo(text string) answers {
 	a.solved[0], a.solveErrs[0] = fairway.Solve(text, "p", "E[!TRp]")
 	a.solved[1], a.solveErrs[1] = fairway.Solve(example, text, "E[!TRp]")
 	a.solved[2], a.solveErrs[2] = fairway.Solve(example, "q", text)
+	a.shown[0], a.replayErrs[0] = fairway.Replay(text, "", "E[!TRp]", 0, "[(0)],.o")
+	a.shown[1], a.replayErrs[1] = fairway.Replay(example, text, "E[!TRp]", 0, "[(0)],.o")
+	a.shown[2], a.replayErrs[2] = fairway.Replay(example, "", text, 0, "[(0)],.o")
+	a.shown[3], a.replayErrs[3] = fairway.Replay(example, "", "E[!TRp]", 0, text)
 	return a
 }
 

@@ -35,7 +35,8 @@ func Push(formula string) (string, Errno) {
 	if tree.err != OK {
 		return "", tree.err
 	}
-	return tree.pushed(tree.root, false), OK
+	pushed := tree.pushed()
+	return pushed.text(pushed.root), OK
 }
 
 // Solve tells in which states a formula holds (P6).
@@ -49,7 +50,14 @@ func Solve(graph string, fair string, formula string) (string, Errno) {
 
 // Replay tells whether a text is a certificate (P7).
 func Replay(graph string, fair string, formula string, state int, cert string) (bool, Errno) {
-	return false, OK
+	if len(cert) > maxCert {
+		return false, ErrLong
+	}
+	said := loadClaim(graph, fair, formula, state)
+	if said.err != OK {
+		return false, said.err
+	}
+	return said.isShownBy(cert), OK
 }
 
 // Show makes a certificate (P8).

@@ -1,6 +1,7 @@
 package fairway_test
 
 import (
+	"slices"
 	"strings"
 	"testing"
 
@@ -270,13 +271,13 @@ func TestSolveFirstError(t *testing.T) {
 	}
 }
 
-func firstError(graph, fair, formula fairway.Errno) fairway.Errno {
-	for _, err := range []fairway.Errno{graph, formula} {
-		if err == fairway.ErrLong {
-			return err
-		}
+// firstError is the error named first, of those of the arguments in their
+// order: that a text is too long comes ahead of every other.
+func firstError(errs ...fairway.Errno) fairway.Errno {
+	if slices.Contains(errs, fairway.ErrLong) {
+		return fairway.ErrLong
 	}
-	for _, err := range []fairway.Errno{graph, fair, formula} {
+	for _, err := range errs {
 		if err != fairway.OK {
 			return err
 		}
