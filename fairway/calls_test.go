@@ -51,7 +51,7 @@ func TestCallsEndAtOddTexts(t *testing.T) {
 		testSolveAtOddText(t, text)
 		for _, state := range []int{math.MinInt, -1, 0, 5, 6, math.MaxInt} {
 			testReplayAtOddText(t, text, state)
-			fairway.Show(text, text, text, state)
+			testShowAtOddText(t, text, state)
 		}
 	}
 }
@@ -89,6 +89,24 @@ func testReplayAtOddText(t *testing.T, text string, state int) {
 	}
 }
 
+// testShowAtOddText lays the text at each place of Show, with texts that are
+// in order at the others.
+func testShowAtOddText(t *testing.T, text string, state int) {
+	t.Helper()
+	for _, texts := range [][3]string{
+		{text, text, text}, {text, "p", "E[TUp]"}, {example, text, "E[TUp]"}, {example, "p", text}, {example, "p", "E[!TRE[TUp]]"},
+	} {
+		cert, err := fairway.Show(texts[0], texts[1], texts[2], state)
+		if (err == fairway.OK) != (cert != "") {
+			t.Errorf("Show(%.60q, %.60q, %.60q, %d) = %.60q, %d", texts[0], texts[1], texts[2], state, cert, err)
+		}
+		yes, replayErr := fairway.Replay(texts[0], texts[1], texts[2], state, cert)
+		if yes != (err == fairway.OK) || err != fairway.ErrFalse && replayErr != err {
+			t.Errorf("Show(%.60q, %.60q, %.60q, %d) = %.60q, %d, of which Replay tells %v, %d", texts[0], texts[1], texts[2], state, cert, err, yes, replayErr)
+		}
+	}
+}
+
 type answers struct {
 	checkErr, formErr, pushErr fairway.Errno
 	checkWhere, formWhere      int
@@ -97,6 +115,8 @@ type answers struct {
 	solveErrs                  [3]fairway.Errno
 	shown                      [4]bool
 	replayErrs                 [4]fairway.Errno
+	certs                      [4]string
+	showErrs                   [4]fairway.Errno
 }
 
 func answersTo(text string) answers {
@@ -111,6 +131,10 @@ func answersTo(text string) answers {
 	a.shown[1], a.replayErrs[1] = fairway.Replay(example, text, "E[!TRp]", 0, "[(0)],.o")
 	a.shown[2], a.replayErrs[2] = fairway.Replay(example, "", text, 0, "[(0)],.o")
 	a.shown[3], a.replayErrs[3] = fairway.Replay(example, "", "E[!TRp]", 0, text)
+	a.certs[0], a.showErrs[0] = fairway.Show(text, "p", "E[!TRE[TUp]]", 0)
+	a.certs[1], a.showErrs[1] = fairway.Show(example, text, "E[!TRE[TUp]]", 0)
+	a.certs[2], a.showErrs[2] = fairway.Show(example, "q", text, 0)
+	a.certs[3], a.showErrs[3] = fairway.Show(example, "q", "E[!TRE[TUp]]", len(text)%4)
 	return a
 }
 

@@ -34,3 +34,14 @@ func (c *claim) isShownBy(cert string) bool {
 	}
 	return reader.place == len(cert)
 }
+
+// shown tells a certificate of the claim, if it is true.
+func (c *claim) shown() (string, Errno) {
+	sets := c.ways.holdings(c.tree.nodes)
+	if !sets[c.tree.root][c.state] {
+		return "", ErrFalse
+	}
+	writer := certWriter{ways: c.ways, nodes: c.tree.nodes, sets: sets}
+	writer.write(c.tree.root, c.state)
+	return string(writer.text), OK
+}

@@ -61,4 +61,10 @@ func Replay(graph string, fair string, formula string, state int, cert string) (
 }
 
 // Show makes a certificate (P8).
-func Show(graph string, fair string, formula string, state int) (string, Errno) { return "", OK }
+func Show(graph string, fair string, formula string, state int) (string, Errno) {
+	said := loadClaim(graph, fair, formula, state)
+	if said.err != OK {
+		return "", said.err
+	}
+	return said.shown()
+}

@@ -10,6 +10,27 @@ type lasso struct {
 	loop   int
 }
 
+// lassoFrom begins a lasso at a state.
+func lassoFrom(state int) lasso {
+	var way lasso
+	way.add(state)
+	return way
+}
+
+// add lists one more state, if there is room for it.
+func (l *lasso) add(state int) {
+	if l.count < maxLasso {
+		l.listed[l.count] = state
+		l.count++
+	}
+}
+
+// last tells the state at the last listed place of a lasso that has been
+// begun.
+func (l *lasso) last() int {
+	return l.listed[l.count-1]
+}
+
 // after tells the listed place that is like the place behind this one.
 func (l *lasso) after(place int) int {
 	if place+1 == l.count {

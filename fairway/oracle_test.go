@@ -257,20 +257,27 @@ func wayFormulas() []string {
 		"!(E[pUq]+!AXp)", "((p&EXq)+A[qU!p])", "E[TUE[!TRp]]", "A[!TRA[TUp]]", "A[!TRE[TUA[qRp]]]")
 }
 
-// All graphs of two states with the marks p and q.
-func TestSolveAllPairs(t *testing.T) {
+// allPairs are all graphs of two states with the marks p and q.
+func allPairs() []string {
 	states := []string{}
 	for _, marks := range []string{"", "p", "q", "pq"} {
 		for _, next := range []string{"", "0", "1", "01"} {
 			states = append(states, marks+">"+next+";")
 		}
 	}
+	graphs := []string{}
 	for _, one := range states {
 		for _, other := range states {
-			graph := one + other
-			for _, fair := range []string{"", "p", "q", "pq", "z", "pz"} {
-				testTruth(t, graph, fair, wayFormulas(), byLassos(statesOf(graph), fair, 4))
-			}
+			graphs = append(graphs, one+other)
+		}
+	}
+	return graphs
+}
+
+func TestSolveAllPairs(t *testing.T) {
+	for _, graph := range allPairs() {
+		for _, fair := range []string{"", "p", "q", "pq", "z", "pz"} {
+			testTruth(t, graph, fair, wayFormulas(), byLassos(statesOf(graph), fair, 4))
 		}
 	}
 }

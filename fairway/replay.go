@@ -149,8 +149,7 @@ func (r *certReader) readListed(way *lasso) {
 		if number < 0 || number >= r.ways.states.count {
 			return
 		}
-		way.listed[way.count] = number
-		way.count++
+		way.add(number)
 		r.place++
 	}
 }

@@ -60,8 +60,14 @@ func (w *fairWays) ahead(goal stateSet) stateSet {
 // reaching tells the states in the goal, and those from which one can come to
 // it through states of the set alone.
 func (w *fairWays) reaching(through stateSet, goal stateSet) stateSet {
+	return w.reachingIn(maxStates-1, through, goal)
+}
+
+// reachingIn tells of these states those from which the goal is at most so
+// many edges away.
+func (w *fairWays) reachingIn(most int, through stateSet, goal stateSet) stateSet {
 	found := goal
-	for steps := 1; steps < maxStates; steps++ {
+	for edges := 1; edges <= most; edges++ {
 		found = either(found, both(through, w.ahead(found)))
 	}
 	return found
@@ -71,11 +77,16 @@ func (w *fairWays) reaching(through stateSet, goal stateSet) stateSet {
 // set: it ends in going round, since the states are so few.
 func (w *fairWays) staying(within stateSet) stateSet {
 	steps := w.stepsWithin(within)
-	var round stateSet
+	return w.reaching(within, w.rounds(steps))
+}
+
+// rounds tells the states at which one can go round fairly by these steps.
+func (w *fairWays) rounds(steps stepTable) stateSet {
+	var found stateSet
 	for state := 0; state < maxStates; state++ {
-		round[state] = w.goesRound(steps, state)
+		found[state] = w.goesRound(steps, state)
 	}
-	return w.reaching(within, round)
+	return found
 }
 
 // stepsWithin tells from which state one can come to which, by one edge or
@@ -112,23 +123,24 @@ func (w *fairWays) goesRound(steps stepTable, state int) bool {
 	if !steps[state][state] {
 		return false
 	}
+	round := around(steps, state)
 	for place := 0; place < len(w.fair); place++ {
-		if !w.meets(steps, state, w.fair[place]) {
+		met := both(round, w.bearing(w.fair[place]))
+		if met == (stateSet{}) {
 			return false
 		}
 	}
 	return true
 }
 
-// meets tells whether by these steps one can come from a state to one that
-// bears the mark, and back again.
-func (w *fairWays) meets(steps stepTable, state int, mark byte) bool {
+// around tells the states to which by these steps one can come from a state,
+// and back again.
+func around(steps stepTable, state int) stateSet {
+	var found stateSet
 	for number := 0; number < maxStates; number++ {
-		if steps[state][number] && steps[number][state] && w.states.bears(number, mark) {
-			return true
-		}
+		found[number] = steps[state][number] && steps[number][state]
 	}
-	return false
+	return found
 }
 
 func both(one stateSet, other stateSet) stateSet {
